@@ -1,0 +1,1 @@
+"""Shapeholes: complexes of simplices, decided with certificates."""

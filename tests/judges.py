@@ -1,0 +1,121 @@
+"""What the tests share: wrong values, well-known complexes, and judges of answers.
+
+The judges work out in other ways than the package whether an answer is right.
+"""
+
+from itertools import combinations
+
+from shapeholes.complexes import Complex
+
+FULL = Complex((tuple(range(8)),))
+EMPTY = Complex(())
+RING = Complex(((0, 1), (0, 2), (1, 2)))
+
+# No one of these is a complex, a simplex, a chain but (), a matrix but () or a prime.
+ODD_VALUES = (
+    None, True, False, 0, 1, -1, 31, 10 ** 40, "", "0 1", [], {}, {0: 1}, [0], [(0,)], (True,), (0, 0), (1, 0), (31,),
+    (-1,), ("0",), (None,), ([0],), ({},), ((0,),), (((0,),),), tuple(range(9)), ((), ()), ((0,), (0,)),
+    (Complex(()),), ValueError, object())
+
+PROJECTIVE = Complex((
+    (0, 1, 4), (0, 1, 5), (0, 2, 3), (0, 2, 5), (0, 3, 4), (1, 2, 3), (1, 2, 4), (1, 3, 5), (2, 4, 5), (3, 4, 5)))
+TORUS = Complex(tuple(
+    tuple(sorted((k, (k + step) % 7, (k + 3) % 7))) for k in range(7) for step in (1, 2)))
+
+
+def grid_surface(rows, columns, turned):
+    """A torus of squares in two triangles each, or a Klein bottle if it is turned."""
+    def at(row, column):
+        if row == rows:
+            row, column = 0, -column if turned else column
+        return row * columns + column % columns
+    triangles = []
+    for row in range(rows):
+        for column in range(columns):
+            a, b = at(row, column), at(row, column + 1)
+            c, d = at(row + 1, column), at(row + 1, column + 1)
+            triangles += [tuple(sorted((a, b, d))), tuple(sorted((a, c, d)))]
+    return Complex(tuple(triangles))
+
+
+KLEIN = grid_surface(4, 4, True)
+
+
+def moore(order, first=0):
+    """A disk whose border goes `order` times around a ring of three vertices."""
+    border = [first + k % 3 for k in range(3 * order)]
+    inner = [first + 3 + k for k in range(3 * order)]
+    middle = first + 3 + 3 * order
+    triangles = []
+    for k in range(3 * order):
+        a, b = border[k], border[(k + 1) % (3 * order)]
+        c, d = inner[k], inner[(k + 1) % (3 * order)]
+        triangles += [(a, b, c), (b, c, d), (c, d, middle)]
+    return Complex(tuple(tuple(sorted(triangle)) for triangle in triangles))
+
+
+def moved_by(shape, many):
+    return Complex(tuple(tuple(vertex + many for vertex in facet) for facet in shape.facets))
+
+
+def all_parts(simplex):
+    return [part for length in range(1, len(simplex) + 1) for part in combinations(simplex, length)]
+
+
+def closed(simplices):
+    """The set of all faces."""
+    return {part for simplex in simplices for part in all_parts(simplex)}
+
+
+def faces(shape):
+    return closed(shape.facets)
+
+
+def product(one, other, width):
+    return tuple(tuple(sum(row[k] * other[k][j] for k in range(len(other))) for j in range(width)) for row in one)
+
+
+def determinant(rows):
+    """By fractions-free elimination."""
+    rows, sign, before = [list(row) for row in rows], 1, 1
+    for k in range(len(rows) - 1):
+        pivot = next((i for i in range(k, len(rows)) if rows[i][k]), None)
+        if pivot is None:
+            return 0
+        if pivot != k:
+            rows[k], rows[pivot], sign = rows[pivot], rows[k], -sign
+        for i in range(k + 1, len(rows)):
+            for j in range(k + 1, len(rows)):
+                rows[i][j] = (rows[i][j] * rows[k][k] - rows[i][k] * rows[k][j]) // before
+        before = rows[k][k]
+    return sign * rows[-1][-1] if rows else 1
+
+
+def border(simplex):
+    return [(simplex[:k] + simplex[k + 1:], (-1) ** k) for k in range(len(simplex))]
+
+
+def border_of_chain(chain):
+    totals = {}
+    for simplex, number in chain:
+        for face, sign in border(simplex):
+            totals[face] = totals.get(face, 0) + sign * number
+    return {face: number for face, number in totals.items() if number}
+
+
+def is_chain(value):
+    simplices = [simplex for simplex, _ in value]
+    return (isinstance(value, tuple) and all(isinstance(pair, tuple) and pair[1] for pair in value)
+            and simplices == sorted(set(simplices)) and len({len(simplex) for simplex in simplices}) <= 1
+            and not any(isinstance(number, bool) for _, number in value))
+
+
+class Judge:
+    """What a test case asks beyond what unittest has."""
+
+    def assert_raises(self, error, call, *arguments):
+        """The call raises just this error: of the same class, with the same field."""
+        with self.assertRaises(type(error)) as caught:
+            call(*arguments)
+        self.assertIs(type(caught.exception), type(error))
+        self.assertEqual(vars(caught.exception), vars(error), repr(arguments)[:200])
