@@ -1,0 +1,49 @@
+"""What stands in which file: the names, arguments and methods of the interface."""
+
+import doctest
+import importlib
+import inspect
+import unittest
+from pathlib import Path
+
+README = Path(__file__).resolve().parent.parent / "README.md"
+
+FUNCTIONS = {
+    "complexes": ("Complex(simplices)", "simplices_of(shape)", "vertices_of(shape)", "counts_of(shape)",
+                  "euler_of(shape)"),
+    "parts": ("link(shape, simplex)", "star(shape, simplex)", "deletion(shape, vertex)", "skeleton(shape, degree)",
+              "induced(shape, vertices)", "union(one, other)", "meet(one, other)", "join(one, other)",
+              "renamed(shape, names)", "components(shape)"),
+    "texts": ("write(shape)", "read(text)"),
+    "matches": ("isomorphism(one, other)",),
+    "chains": ("boundary(chain)", "boundary_rows(shape, degree)"),
+    "fields": ("rank_mod(rows, prime)",),
+    "smith": ("smith(rows)",),
+    "holes": ("holes(shape, degree)", "holes_mod(shape, degree, prime)", "filling(shape, chain)",
+              "reading(shape, chain, prime)")}
+
+
+class Interface(unittest.TestCase):
+    def test_names_and_arguments(self):
+        for file, signatures in FUNCTIONS.items():
+            module = importlib.import_module("shapeholes." + file)
+            for signature in signatures:
+                name = signature.partition("(")[0]
+                found = getattr(module, name)
+                self.assertEqual(name + str(inspect.signature(found)), signature)
+                self.assertEqual(found.__module__, module.__name__)
+
+    def test_class(self):
+        members = vars(importlib.import_module("shapeholes.complexes").Complex)
+        self.assertIsInstance(members["facets"], property)
+        self.assertIn("__eq__", members)
+        self.assertIn("__contains__", members)
+
+    def test_readme(self):
+        found = doctest.testfile(str(README), module_relative=False)
+        self.assertEqual(found.failed, 0)
+        self.assertGreater(found.attempted, 5)
+
+
+if __name__ == "__main__":
+    unittest.main()
