@@ -39,6 +39,11 @@ def without_place(simplex, place):
     return simplex[:place] + simplex[place + 1:]
 
 
+def sides_of(simplex):
+    """The faces of a simplex with all its vertices but one; a vertex has none."""
+    return [without_place(simplex, place) for place in range(len(simplex)) if len(simplex) > 1]
+
+
 def is_disjoint(one, other):
     return not any([vertex in other for vertex in one])
 

@@ -41,17 +41,24 @@ def grid_surface(rows, columns, turned):
 KLEIN = grid_surface(4, 4, True)
 
 
+def disk(ring, first):
+    """A disk whose border goes along a ring of vertices, with new ones from a first one on."""
+    size = len(ring)
+    triangles = []
+    for k in range(size):
+        a, b = ring[k], ring[(k + 1) % size]
+        c, d = first + k, first + (k + 1) % size
+        triangles += [(a, b, c), (b, c, d), (c, d, first + size)]
+    return Complex(tuple(tuple(sorted(triangle)) for triangle in triangles))
+
+
 def moore(order, first=0):
     """A disk whose border goes `order` times around a ring of three vertices."""
-    border = [first + k % 3 for k in range(3 * order)]
-    inner = [first + 3 + k for k in range(3 * order)]
-    middle = first + 3 + 3 * order
-    triangles = []
-    for k in range(3 * order):
-        a, b = border[k], border[(k + 1) % (3 * order)]
-        c, d = inner[k], inner[(k + 1) % (3 * order)]
-        triangles += [(a, b, c), (b, c, d), (c, d, middle)]
-    return Complex(tuple(tuple(sorted(triangle)) for triangle in triangles))
+    return disk([first + k % 3 for k in range(3 * order)], first + 3)
+
+
+# A disk whose border goes around a ring twice forwards and once back: no holes, but no free pair.
+DUNCE = disk([0, 1, 2, 0, 1, 2, 0, 2, 1], 3)
 
 
 def moved_by(shape, many):
@@ -108,6 +115,62 @@ def is_chain(value):
     return (isinstance(value, tuple) and all(isinstance(pair, tuple) and pair[1] for pair in value)
             and simplices == sorted(set(simplices)) and len({len(simplex) for simplex in simplices}) <= 1
             and not any(isinstance(number, bool) for _, number in value))
+
+
+def span_rank(vectors, prime):
+    """The rank, by a prime, of dicts from anything to numbers."""
+    return len(reduced(vectors, prime)[0])
+
+
+def reduced(vectors, prime):
+    """Independent rows with the vectors' sums of multiples, and the sums of multiples of the vectors that are 0."""
+    rows, nothings = [], []
+    for at, vector in enumerate(vectors):
+        rest = {key: number % prime for key, number in vector.items() if number % prime}
+        made = {at: 1}
+        for key, row, parts in rows:
+            factor = rest.get(key, 0) * pow(row[key], -1, prime) % prime
+            rest, made = less_times(rest, row, factor, prime), less_times(made, parts, factor, prime)
+        if rest:
+            rows.append((next(iter(rest)), rest, made))
+        else:
+            nothings.append(made)
+    return rows, nothings
+
+
+def less_times(one, other, factor, prime):
+    total = {key: (one.get(key, 0) - factor * other.get(key, 0)) % prime for key in {**one, **other}}
+    return {key: number for key, number in total.items() if number}
+
+
+def cells(simplices, degree):
+    """The simplices of a degree, among them the empty one where it is given."""
+    return sorted(simplex for simplex in simplices if len(simplex) == degree + 1)
+
+
+def borders(simplices, degree, nothing=()):
+    """The boundaries of all simplices of a degree; some faces count as nothing."""
+    return [{face: sign for face, sign in border(simplex) if face not in nothing} for simplex in cells(simplices, degree)]
+
+
+def cycles(simplices, degree, prime, nothing=()):
+    """Dicts that make up all chains of simplices whose boundary is nothing, by a prime."""
+    found = cells(simplices, degree)
+    return [{found[at]: number for at, number in made.items()}
+            for made in reduced(borders(simplices, degree, nothing), prime)[1]]
+
+
+def rank_by(vectors, nothings, prime):
+    """The rank of vectors with others counted as nothing."""
+    return span_rank(nothings + vectors, prime) - span_rank(nothings, prime)
+
+
+def holes_by(simplices, degree, prime):
+    return rank_by(cycles(simplices, degree, prime), borders(simplices, degree + 1), prime)
+
+
+def with_empty(shape):
+    return faces(shape) | {()}
 
 
 class Judge:

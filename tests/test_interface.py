@@ -20,7 +20,14 @@ FUNCTIONS = {
     "fields": ("rank_mod(rows, prime)",),
     "smith": ("smith(rows)",),
     "holes": ("holes(shape, degree)", "holes_mod(shape, degree, prime)", "filling(shape, chain)",
-              "reading(shape, chain, prime)")}
+              "reading(shape, chain, prime)"),
+    "filtrations": ("Filtration(shape, times)", "stage(filtration, time)", "order_of(filtration)"),
+    "persistence": ("pairs(filtration, order)", "pairs_by_rows(filtration, order)", "bars(filtration, degree)",
+                    "rank_between(filtration, degree, begin, end)", "least_forest(filtration)"),
+    "bottleneck": ("bottleneck(one, other)", "is_matching(one, other, value, doubled)"),
+    "collapses": ("free_pairs(shape)", "collapsed(shape, steps)", "collapse_fully(shape)", "left_by(shape)",
+                  "dominated(shape)", "apexes(shape)", "core(shape)")}
+CLASSES = {"complexes.Complex": ("facets",), "filtrations.Filtration": ("times",)}
 
 
 class Interface(unittest.TestCase):
@@ -33,11 +40,14 @@ class Interface(unittest.TestCase):
                 self.assertEqual(name + str(inspect.signature(found)), signature)
                 self.assertEqual(found.__module__, module.__name__)
 
-    def test_class(self):
-        members = vars(importlib.import_module("shapeholes.complexes").Complex)
-        self.assertIsInstance(members["facets"], property)
-        self.assertIn("__eq__", members)
-        self.assertIn("__contains__", members)
+    def test_classes(self):
+        for place, properties in CLASSES.items():
+            file, _, name = place.partition(".")
+            members = vars(getattr(importlib.import_module("shapeholes." + file), name))
+            self.assertIn("__eq__", members)
+            for known in properties:
+                self.assertIsInstance(members[known], property)
+        self.assertIn("__contains__", vars(importlib.import_module("shapeholes.complexes").Complex))
 
     def test_readme(self):
         found = doctest.testfile(str(README), module_relative=False)
