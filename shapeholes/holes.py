@@ -3,8 +3,9 @@
 from shapeholes.chains import border_matrix, boundary, cells_of, check_chain
 from shapeholes.complexes import check_complex
 from shapeholes.errors import BadChain, NotCycle
-from shapeholes.fields import basis_of, check_prime, first_place, rank_mod, remainder_of, row_across
+from shapeholes.fields import basis_of, check_prime, first_place, remainder_of, row_across
 from shapeholes.matrices import columns_of
+from shapeholes.reductions import reduced_numbers
 from shapeholes.simplices import check_degree
 from shapeholes.smith import factors_of, smith, solution_of
 
@@ -26,9 +27,7 @@ def holes_mod(shape, degree, prime):
     check_complex(shape)
     check_degree(degree, -1)
     check_prime(prime)
-    below = rank_mod(border_matrix(shape, degree), prime)
-    above = rank_mod(border_matrix(shape, degree + 1), prime)
-    return len(cells_of(shape, degree)) - below - above
+    return reduced_numbers(shape, prime)[degree]
 
 
 def check_cycle(shape, chain):

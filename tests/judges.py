@@ -17,6 +17,9 @@ ODD_VALUES = (
     (-1,), ("0",), (None,), ([0],), ({},), ((0,),), (((0,),),), tuple(range(9)), ((), ()), ((0,), (0,)),
     (Complex(()),), ValueError, object())
 
+PRIMES = (2, 3, 5, 7)
+BAD_PRIMES = (0, 1, 4, 9, 11, -3, True, None, "2", (3,), [], RING)
+
 PROJECTIVE = Complex((
     (0, 1, 4), (0, 1, 5), (0, 2, 3), (0, 2, 5), (0, 3, 4), (1, 2, 3), (1, 2, 4), (1, 3, 5), (2, 4, 5), (3, 4, 5)))
 TORUS = Complex(tuple(

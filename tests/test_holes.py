@@ -4,18 +4,16 @@ import random
 import unittest
 
 from judges import (
-    EMPTY, FULL, KLEIN, ODD_VALUES, PROJECTIVE, RING, TORUS, Judge, border, border_of_chain, closed, faces, grid_surface,
-    is_chain, moore, moved_by)
+    BAD_PRIMES, EMPTY, FULL, KLEIN, ODD_VALUES, PRIMES, PROJECTIVE, RING, TORUS, Judge, border, border_of_chain, closed,
+    faces, grid_surface, is_chain, moore, moved_by)
 from shapeholes.chains import boundary
 from shapeholes.complexes import Complex, euler_of, simplices_of
 from shapeholes.errors import BadChain, BadDegree, BadPrime, NotComplex, NotCycle
 from shapeholes.holes import filling, holes, holes_mod, reading
 from shapeholes.parts import join, skeleton, union
 
-PRIMES = (2, 3, 5, 7)
 DEGREES = range(-1, 8)
 TWO_POINTS = Complex(((0,), (30,)))
-BAD_PRIMES = (0, 1, 4, 9, 11, -3, True, None, "2", (3,), [], RING)
 
 
 def all_holes(shape):

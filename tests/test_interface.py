@@ -26,7 +26,16 @@ FUNCTIONS = {
                     "rank_between(filtration, degree, begin, end)", "least_forest(filtration)"),
     "bottleneck": ("bottleneck(one, other)", "is_matching(one, other, value, doubled)"),
     "collapses": ("free_pairs(shape)", "collapsed(shape, steps)", "collapse_fully(shape)", "left_by(shape)",
-                  "dominated(shape)", "apexes(shape)", "core(shape)")}
+                  "dominated(shape)", "apexes(shape)", "core(shape)"),
+    "nerves": ("nerve(shape)", "row_shape(table)", "column_shape(table)", "cover_nerve(parts)",
+               "is_clean_cover(parts, prime)"),
+    "shellings": ("is_pure(shape)", "is_shelling(shape, order)", "shelling(shape)", "restrictions(shape, order)"),
+    "counts": ("h_numbers(shape)", "is_even_all(shape)", "cascade(number, size)", "least_shadow(number, size)",
+               "are_counts(counts)", "compressed(counts)"),
+    "duals": ("dual(shape, many)", "missing(shape, many)", "is_clean(shape, prime)",
+              "degrees_of_parts(shape, many, prime)"),
+    "sequences": ("pair_holes(shape, part, degree, prime)", "pair_ranks(shape, part, degree, prime)",
+                  "union_ranks(one, other, degree, prime)")}
 CLASSES = {"complexes.Complex": ("facets",), "filtrations.Filtration": ("times",)}
 
 
