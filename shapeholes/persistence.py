@@ -11,7 +11,7 @@ def pairs(filtration, order):
     reduced = []
     fillers = {}
     for at, column in enumerate(border_columns(order)):
-        while column and last_row(column) in fillers:
+        while last_row(column) in fillers:
             column = column ^ reduced[fillers[last_row(column)]]
         reduced.append(column)
         if column:

@@ -27,6 +27,11 @@ def pure_shape(seed):
 
 
 class Numbers(Judge, unittest.TestCase):
+    def test_example(self):
+        self.assertEqual(
+            [h_numbers(Complex(((0, 1, 2), (1, 2, 3)))), cascade(9, 3), least_shadow(9, 3), are_counts((4, 6, 4, 2))],
+            [(1, 1, 0, 0), ((4, 3), (3, 2), (2, 1)), 10, False])
+
     def h_by_polynomial(self, counts):
         """The numbers of the sum of f(i) * (x - 1) ** (d - i), from the greatest power on."""
         total = [0] * (len(counts) + 1)
