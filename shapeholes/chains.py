@@ -15,6 +15,14 @@ def check_chain(chain):
             raise BadChain(k)
 
 
+def check_chain_of(shape, chain):
+    check_chain(chain)
+    for k in range(len(chain)):
+        # The empty simplex belongs to each complex, though it is none of its simplices.
+        if chain[k][0] != () and chain[k][0] not in shape:
+            raise BadChain(k)
+
+
 def is_term(value):
     """Whether a value is a pair of a simplex, perhaps the empty one, and an integer but 0."""
     if not isinstance(value, tuple) or len(value) != 2:

@@ -1,8 +1,8 @@
 """The reduced holes of complexes, and cycles that are boundaries or are not."""
 
-from shapeholes.chains import border_matrix, boundary, cells_of, check_chain
+from shapeholes.chains import border_matrix, boundary, cells_of, check_chain_of
 from shapeholes.complexes import check_complex
-from shapeholes.errors import BadChain, NotCycle
+from shapeholes.errors import NotCycle
 from shapeholes.fields import basis_of, check_prime, first_place, remainder_of, row_across
 from shapeholes.matrices import columns_of
 from shapeholes.reductions import reduced_numbers
@@ -32,11 +32,7 @@ def holes_mod(shape, degree, prime):
 
 def check_cycle(shape, chain):
     check_complex(shape)
-    check_chain(chain)
-    for k in range(len(chain)):
-        # The empty simplex belongs to each complex, though it is none of its simplices.
-        if chain[k][0] != () and chain[k][0] not in shape:
-            raise BadChain(k)
+    check_chain_of(shape, chain)
     if boundary(chain):
         raise NotCycle("the boundary of the chain is not nothing")
 

@@ -8,10 +8,10 @@ class Net:
 
     def __init__(self, shape):
         vertices = vertices_of(shape)
-        self.points = list(range(len(vertices)))
+        self.spots = list(range(len(vertices)))
         self.blocks = [[vertices.index(vertex) for vertex in facet] for facet in shape.facets]
         self.around = [[k for k in range(len(self.blocks)) if point in self.blocks[k]]
-                       for point in self.points]
+                       for point in self.spots]
 
 
 def isomorphism(one, other):
@@ -28,14 +28,14 @@ def matched(one, other):
     """The points of other to which those of one go, None if there is no such way.
 
     Points are first told apart by what is seen from them, which settles most complexes."""
-    views = [view_from(one, point) for point in one.points]
-    others = [view_from(other, point) for point in other.points]
+    views = [view_from(one, point) for point in one.spots]
+    others = [view_from(other, point) for point in other.spots]
     names = ranks_of(views + others)
     return search(one, [names[view] for view in views], other, [names[view] for view in others])
 
 
 def view_from(net, point):
-    return refined(net, marked([0] * len(net.points), point))[1]
+    return refined(net, marked([0] * len(net.spots), point))[1]
 
 
 def search(one, colors, other, shades):
@@ -48,7 +48,7 @@ def search(one, colors, other, shades):
     if point is None:
         return [shades.index(color) for color in colors]
     failed = []
-    for image in [k for k in other.points if shades[k] == colors[point]]:
+    for image in [k for k in other.spots if shades[k] == colors[point]]:
         if is_alike_any(other, shades, failed, image):
             continue
         images = search(one, marked(colors, point), other, marked(shades, image))
@@ -76,7 +76,7 @@ def refined(net, colors):
     while True:
         blocks = [tuple(sorted([colors[point] for point in block])) for block in net.blocks]
         signs = [(colors[point], tuple(sorted([blocks[k] for k in net.around[point]])))
-                 for point in net.points]
+                 for point in net.spots]
         names = ranks_of(signs)
         trace = trace + (tuple(sorted(signs)),)
         is_stable = len(names) == len(ranks_of(colors))

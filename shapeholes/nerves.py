@@ -4,7 +4,7 @@ from shapeholes.complexes import Complex, check_complex, simplices_of, vertices_
 from shapeholes.errors import BadCover, BadTable, TooMany
 from shapeholes.fields import check_prime
 from shapeholes.matrices import columns_of
-from shapeholes.reductions import hole_numbers
+from shapeholes.reductions import has_holes
 from shapeholes.simplices import LAST_VERTEX, MOST_VERTICES, is_integer
 
 
@@ -62,7 +62,7 @@ def is_clean_cover(parts, prime):
         # The set without its last index is shorter, so that its meet is known.
         around = meets[indexes[:-1]] if indexes[:-1] else simplices_of(parts[indexes[-1]])
         common = [simplex for simplex in around if simplex in parts[indexes[-1]]]
-        if any(list(hole_numbers([()] + common, prime).values())):
+        if has_holes(common, prime):
             return False
         meets[indexes] = common
     return True

@@ -2,6 +2,7 @@
 
 from shapeholes.complexes import check_complex, complex_of, simplices_of, vertices_of
 from shapeholes.errors import BadJoin, BadNames, BadSimplex, BadVertex, BadVertices
+from shapeholes.forests import tied
 from shapeholes.simplices import (
     MOST_VERTICES, check_degree, is_ascending, is_disjoint, is_vertex, together)
 
@@ -105,9 +106,12 @@ def is_pair_of(value, vertex):
 
 def components(shape):
     check_complex(shape)
-    first = {vertex: vertex for vertex in vertices_of(shape)}
-    for edge in [simplex for simplex in simplices_of(shape) if len(simplex) == 2]:
-        low, high = sorted([first[edge[0]], first[edge[1]]])
-        first = {vertex: low if first[vertex] == high else first[vertex] for vertex in first}
-    return [tuple([vertex for vertex in first if first[vertex] == low])
-            for low in first if first[low] == low]
+    edges = [simplex for simplex in simplices_of(shape) if len(simplex) == 2]
+    firsts, _ = tied(vertices_of(shape), edges)
+    return [tuple([vertex for vertex in firsts if firsts[vertex] == low])
+            for low in firsts if firsts[low] == low]
+
+
+def is_part(one, other):
+    """Whether all simplices of one complex are simplices of the other one."""
+    return all([facet in other for facet in one.facets])

@@ -1,7 +1,9 @@
 """How holes come and go in a filtration."""
 
+from shapeholes.complexes import vertices_of
 from shapeholes.errors import BadTime
 from shapeholes.filtrations import check_filtration, check_order, check_time, order_of, times_by_simplex
+from shapeholes.forests import tied
 from shapeholes.simplices import check_degree, sides_of
 
 
@@ -78,12 +80,7 @@ def rank_between(filtration, degree, begin, end):
 def least_forest(filtration):
     check_filtration(filtration)
     come = times_by_simplex(filtration)
-    first = {simplex[0]: simplex[0] for simplex in come if len(simplex) == 1}
-    forest = []
-    for edge in sorted([simplex for simplex in come if len(simplex) == 2],
-                       key=lambda simplex: (come[simplex], simplex)):
-        low, high = sorted([first[edge[0]], first[edge[1]]])
-        if low != high:
-            forest.append(edge)
-            first = {vertex: low if first[vertex] == high else first[vertex] for vertex in first}
+    edges = sorted([simplex for simplex in come if len(simplex) == 2],
+                   key=lambda simplex: (come[simplex], simplex))
+    _, forest = tied(vertices_of(filtration.shape), edges)
     return tuple(sorted(forest))

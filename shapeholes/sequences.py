@@ -3,7 +3,7 @@
 from shapeholes.complexes import check_complex, simplices_of
 from shapeholes.errors import BadPart
 from shapeholes.fields import check_prime
-from shapeholes.parts import meet
+from shapeholes.parts import is_part, meet
 from shapeholes.reductions import hole_numbers, reduced_numbers
 from shapeholes.simplices import MOST_VERTICES, check_degree
 
@@ -11,7 +11,7 @@ from shapeholes.simplices import MOST_VERTICES, check_degree
 def check_pair(shape, part, degree, prime):
     check_complex(shape)
     check_complex(part)
-    if not all([facet in shape for facet in part.facets]):
+    if not is_part(part, shape):
         raise BadPart("a complex of some simplices of the complex is needed")
     check_degree(degree, 0)
     check_prime(prime)

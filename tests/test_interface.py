@@ -35,8 +35,18 @@ FUNCTIONS = {
     "duals": ("dual(shape, many)", "missing(shape, many)", "is_clean(shape, prime)",
               "degrees_of_parts(shape, many, prime)"),
     "sequences": ("pair_holes(shape, part, degree, prime)", "pair_ranks(shape, part, degree, prime)",
-                  "union_ranks(one, other, degree, prime)")}
-CLASSES = {"complexes.Complex": ("facets",), "filtrations.Filtration": ("times",)}
+                  "union_ranks(one, other, degree, prime)"),
+    "posets": ("Poset(many, pairs)", "chains_shape(poset)", "interval_shape(poset, low, high)",
+               "moebius(poset, low, high)", "is_monotone(one, other, images)",
+               "are_fibers_clean(one, other, images, prime)"),
+    "subdivisions": ("subdivided(shape)",),
+    "maps": ("is_map(one, other, names)", "image_of(one, other, names)", "moved_chain(one, other, names, chain)",
+             "map_rank(one, other, names, degree, prime)", "hole_trace(shape, names, degree, prime)",
+             "lefschetz(shape, names)", "fixed_simplices(shape, names)", "are_near(one, other, names, more)",
+             "fundamental(shape)", "degree_of(one, other, names)"),
+    "paths": ("spanning_tree(shape)", "presentation(shape, tree)", "word_of(shape, tree, path)",
+              "ways(shape, tree, sheets)", "covering(shape, tree, sheets, way)")}
+CLASSES = {"complexes.Complex": ("facets",), "filtrations.Filtration": ("times",), "posets.Poset": ("pairs", "points")}
 
 
 class Interface(unittest.TestCase):
