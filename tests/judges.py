@@ -44,6 +44,50 @@ def grid_surface(rows, columns, turned):
 KLEIN = grid_surface(4, 4, True)
 
 
+SPHERE = Complex(((0, 1, 2), (0, 1, 3), (0, 2, 3), (1, 2, 3)))
+OCTAHEDRON = Complex(tuple((a, b, c) for a in (0, 1) for b in (2, 3) for c in (4, 5)))
+# Two surfaces of one kind and with as many vertices in which all vertices are connected, so that no edge can be flipped.
+FROZEN = (
+    Complex(((0, 1, 3), (0, 1, 6), (0, 2, 4), (0, 2, 7), (0, 3, 8), (0, 4, 6), (0, 5, 7), (0, 5, 8), (1, 2, 4), (1, 2, 8),
+             (1, 3, 5), (1, 4, 5), (1, 6, 7), (1, 7, 8), (2, 3, 5), (2, 3, 7), (2, 5, 6), (2, 6, 8), (3, 4, 6), (3, 4, 7),
+             (3, 6, 8), (4, 5, 8), (4, 7, 8), (5, 6, 7))),
+    Complex(((0, 1, 3), (0, 1, 4), (0, 2, 4), (0, 2, 5), (0, 3, 7), (0, 5, 6), (0, 6, 8), (0, 7, 8), (1, 2, 3), (1, 2, 6),
+             (1, 4, 7), (1, 5, 6), (1, 5, 8), (1, 7, 8), (2, 3, 8), (2, 4, 8), (2, 5, 7), (2, 6, 7), (3, 4, 5), (3, 4, 6),
+             (3, 5, 8), (3, 6, 7), (4, 5, 7), (4, 6, 8))))
+
+
+def grown(shape, many, source):
+    """A surface with so many vertices, made by new ones in triangles drawn from a source."""
+    triangles = list(shape.facets)
+    vertices = {vertex for triangle in triangles for vertex in triangle}
+    for fresh in [vertex for vertex in range(31) if vertex not in vertices][:many - len(vertices)]:
+        a, b, c = triangles.pop(source.randrange(len(triangles)))
+        triangles += [tuple(sorted(triangle)) for triangle in ((a, b, fresh), (a, c, fresh), (b, c, fresh))]
+    return Complex(tuple(triangles))
+
+
+def tips_of(triangles, edge):
+    return [vertex for triangle in triangles if set(edge) <= set(triangle) for vertex in triangle if vertex not in edge]
+
+
+def flipped_by(triangles, edge):
+    """The triangles behind the flip of an edge, None if its tips are connected."""
+    one, other = tips_of(triangles, edge)
+    if any({one, other} <= set(triangle) for triangle in triangles):
+        return None
+    kept = [triangle for triangle in triangles if not set(edge) <= set(triangle)]
+    return kept + [tuple(sorted((one, other, end))) for end in edge]
+
+
+def stirred(shape, many, source):
+    """A surface behind so many flips of edges drawn from a source."""
+    triangles = list(shape.facets)
+    for _ in range(many):
+        low, high = sorted(source.sample(source.choice(sorted(triangles)), 2))
+        triangles = flipped_by(triangles, (low, high)) or triangles
+    return Complex(tuple(triangles))
+
+
 def disk(ring, first):
     """A disk whose border goes along a ring of vertices, with new ones from a first one on."""
     size = len(ring)

@@ -45,8 +45,19 @@ FUNCTIONS = {
              "lefschetz(shape, names)", "fixed_simplices(shape, names)", "are_near(one, other, names, more)",
              "fundamental(shape)", "degree_of(one, other, names)"),
     "paths": ("spanning_tree(shape)", "presentation(shape, tree)", "word_of(shape, tree, path)",
-              "ways(shape, tree, sheets)", "covering(shape, tree, sheets, way)")}
-CLASSES = {"complexes.Complex": ("facets",), "filtrations.Filtration": ("times",), "posets.Poset": ("pairs", "points")}
+              "ways(shape, tree, sheets)", "covering(shape, tree, sheets, way)"),
+    "surfaces": ("is_surface(shape)", "orientation(shape)", "band(shape)", "is_turning(shape, value)", "kind(shape)",
+                 "connected_sum(one, other)", "polygon(shape)", "word_kind(word)", "normal_word(word)"),
+    "matchings": ("is_loopless(shape, pairs)", "critical_counts(shape, pairs)"),
+    "zigzags": ("zigzag_bars(row, degree)",),
+    "flips": ("flips(shape)", "flipped(shape, edge)", "flip_road(one, other)"),
+    "workshops": ("Workshop()", "replayed(text)")}
+# The properties and the methods of each class, which stand in the class itself.
+CLASSES = {
+    "complexes.Complex": (("facets",), ("__eq__(self, other)", "__contains__(self, simplex)")),
+    "filtrations.Filtration": (("times",), ("__eq__(self, other)",)),
+    "posets.Poset": (("pairs", "points"), ("__eq__(self, other)",)),
+    "workshops.Workshop": (("current", "steps"), ("run(self, line)", "undo(self)", "redo(self)"))}
 
 
 class Interface(unittest.TestCase):
@@ -60,13 +71,14 @@ class Interface(unittest.TestCase):
                 self.assertEqual(found.__module__, module.__name__)
 
     def test_classes(self):
-        for place, properties in CLASSES.items():
+        for place, (properties, methods) in CLASSES.items():
             file, _, name = place.partition(".")
             members = vars(getattr(importlib.import_module("shapeholes." + file), name))
-            self.assertIn("__eq__", members)
             for known in properties:
                 self.assertIsInstance(members[known], property)
-        self.assertIn("__contains__", vars(importlib.import_module("shapeholes.complexes").Complex))
+            for signature in methods:
+                method = members[signature.partition("(")[0]]
+                self.assertEqual(method.__name__ + str(inspect.signature(method)), signature)
 
     def test_readme(self):
         found = doctest.testfile(str(README), module_relative=False)

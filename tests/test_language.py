@@ -58,6 +58,14 @@ def bound_names(tree):
     return names
 
 
+def without_names(value, functions):
+    """A value with 0 in place of the names of functions that stand above it."""
+    class Replacer(ast.NodeTransformer):
+        def visit_Name(self, node):
+            return ast.Constant(0) if node.id in functions else node
+    return Replacer().visit(ast.parse(ast.unparse(value), mode="eval").body)
+
+
 def local_names(tree):
     return ([node.arg for node in ast.walk(tree) if isinstance(node, ast.arg)]
             + [node.id for part in ast.walk(tree) if isinstance(part, ast.FunctionDef)
@@ -101,7 +109,8 @@ class Structure(unittest.TestCase):
                 else:
                     self.assertIsInstance(node, (ast.ImportFrom, ast.FunctionDef, ast.ClassDef, ast.Assign), name)
                 if isinstance(node, ast.Assign):
-                    ast.literal_eval(node.value)
+                    functions = [part.name for part in tree.body[:k] if isinstance(part, ast.FunctionDef)]
+                    ast.literal_eval(without_names(node.value, functions))
             self.assertEqual(len(bound_names(tree)), len(set(bound_names(tree))), name)
 
     def test_imports(self):
